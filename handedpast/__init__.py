@@ -1,0 +1,1 @@
+"""Handedpast: exact loads on a track where carriers cannot pass each other."""
