@@ -73,3 +73,21 @@ def size_of(a):
 def greater_of(a, b):
     """The greater one of a and b."""
     return b if order_of(a, b) < 0 else a
+
+
+def least_of(values):
+    """The least of these fractions; None if there are none."""
+    least = None
+    for value in values:
+        if least is None or order_of(value, least) < 0:
+            least = value
+    return least
+
+
+def ascending(values):
+    """The indexes of these fractions in ascending order, those of equal ones as they stand."""
+    found = []
+    for k in range(len(values)):
+        not_above = [other for other in found if order_of(values[other], values[k]) <= 0]
+        found.insert(len(not_above), k)
+    return found

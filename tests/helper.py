@@ -1,4 +1,4 @@
-"""What several tests use: values, a slow way to find contacts, and timetables by the hundred."""
+"""What several tests use: values, slow ways to find contacts and carriers, and timetables by the hundred."""
 
 from fractions import Fraction
 from itertools import islice
@@ -10,6 +10,8 @@ A = Timetable([((0, 1), (0, 1)), ((4, 1), (4, 1))])
 B = Timetable([((0, 1), (2, 1))])
 C = Timetable([((0, 1), (0, 1)), ((20, 1), (20, 1))])
 D = Timetable([((0, 1), (5, 1))])
+LINE = {"a": A, "b": B}
+RING = {"c": C, "d": D}
 
 # Values of every kind that is called "any value", none of them a fraction or a length.
 ODD_VALUES = [
@@ -127,3 +129,91 @@ def later_begin(one, other):
 def random_time(dice, least):
     """A number at or after least, often one at which something happens."""
     return least + Fraction(dice.randint(0, 40), dice.choice([2, 2, 3, 4, 8]))
+
+
+NAMES = ["a", "b", "cc", "dog", "handedpt", "z", "aa", "ab", "ba", "q", "r", "s"]
+
+
+def begin_number(tables):
+    """The begin of loads that begin at one time, as a number."""
+    return number(next(iter(tables.values())).begin())
+
+
+def spot_number(x, length):
+    """The spot of a number."""
+    return x if length is None else x % length
+
+
+def random_tables(dice, length):
+    """One to five loads that begin at one time on different spots."""
+    while True:
+        begin = Fraction(dice.randint(-4, 4), 2)
+        tables = {}
+        for name in dice.sample(NAMES, dice.randint(1, 5)):
+            made = random_table(dice)
+            tables[name] = made.later(frac(begin - number(made.begin())))
+        spots = {spot_number(height(made, begin), length) for made in tables.values()}
+        if len(spots) == len(tables):
+            return tables
+
+
+def random_plays(many, seed):
+    """Yields (tables, length, dice) for as many tracks."""
+    dice = Random(seed)
+    for _ in range(many):
+        length = dice.choice([None, None, 1, 2, 3, 5, 50])
+        yield random_tables(dice, length), length, dice
+
+
+def stops_of(tables, length):
+    """The ascending numbers at which a load turns, or two loads come together or part."""
+    every = list(tables.values())
+    stops = {number(t) for made in every for t, _ in made.knots()}
+    for k, one in enumerate(every):
+        for other in every[:k]:
+            for contact in slow_contacts(one, other, length):
+                stops.update(number(t) for t in contact[:2] if t is not None)
+    return sorted(stops)
+
+
+def times_of(tables, length):
+    """The stops, numbers between each two neighbouring ones, and one after the last."""
+    stops = stops_of(tables, length)
+    middles = [(start + end) / 2 for start, end in zip(stops, stops[1:])]
+    return sorted(stops + middles) + [stops[-1] + 1]
+
+
+def slow_moments(tables, length):
+    """The list of (start, copies by carrier), the copies (name, lap) being those just after start.
+
+    Found by sorting what was there before by the positions a little later.
+    """
+    stops = stops_of(tables, length)
+    many = len(tables)
+    lap = length or 0
+
+    def order(copies, t):
+        return sorted(copies, key=lambda copy: height(tables[copy[0]], t) + copy[1] * lap)
+
+    starts = {name: height(made, stops[0]) for name, made in tables.items()}
+    copies = order([(name, -(x // length) if length else 0) for name, x in starts.items()], stops[0])
+    moments = []
+    for start, end in zip(stops, [*stops[1:], stops[-1] + 2]):
+        around = [(name, k + turn) for turn in ([-1, 0, 1] if length else [0]) for name, k in copies]
+        around = order(around, (start + end) / 2)
+        copies = around[many:2 * many] if length else around
+        moments.append((start, copies))
+    return moments
+
+
+def slow_copies(moments, t):
+    """The copies by carrier just before the number t; at the begin those of the begin."""
+    return [copies for start, copies in moments if start < t or start == moments[0][0]][-1]
+
+
+def slow_before(one, other, t, length):
+    """The before of the contact at the number t; None if the loads are apart."""
+    for begin, end, before, _ in slow_contacts(one, other, length):
+        if number(begin) <= t and (end is None or t <= number(end)):
+            return before
+    return None

@@ -145,6 +145,20 @@ class FormTest(unittest.TestCase):
             if isinstance(node.func, ast.Attribute):
                 self.assertIn(node.func.attr, own | METHODS, place)
 
+    def test_generators(self):
+        names = [node.name for _, node in self.nodes(ast.FunctionDef)]
+        yielding = (ast.Yield, ast.YieldFrom)
+        own = {node.name for _, node in self.nodes(ast.FunctionDef)
+               if any(isinstance(part, yielding) for part in ast.walk(node))}
+        self.assertEqual({name for name in own if names.count(name) > 1} | own & METHODS, set())
+        at_once = set()
+        for _, node in self.nodes(ast.For, ast.comprehension, ast.YieldFrom):
+            at_once.add(node.value if isinstance(node, ast.YieldFrom) else node.iter)
+        for place, node in self.nodes(ast.Call):
+            name = node.func.attr if isinstance(node.func, ast.Attribute) else getattr(node.func, "id", None)
+            if name in own:
+                self.assertIn(node, at_once, place)
+
     def test_generator_expressions(self):
         for place, node in self.nodes(ast.GeneratorExp, ast.Set, ast.SetComp):
             self.fail(f"{type(node).__name__} in {place}: see L7 and L24 before it is allowed here")
