@@ -4,7 +4,7 @@ A copy is a pair (name, lap): the load's position plus as many laps, which is 0 
 """
 
 from handedpast.errors import NoTime
-from handedpast.fractions import order_of, rest_of
+from handedpast.fractions import greater_of, order_of, rest_of
 from handedpast.pairs import are_together, check_length, contacts, laps, level_at
 
 
@@ -57,6 +57,14 @@ def order_at(tables, t, *, length=None):
 def begin_of(tables):
     """The time at which all the loads begin."""
     return list(tables.values())[0].begin()
+
+
+def end_of(tables):
+    """The time of the last knot of all, from which on every load rests."""
+    end = begin_of(tables)
+    for name in tables:
+        end = greater_of(end, tables[name].knots()[-1][0])
+    return end
 
 
 def laps_gained(one, other, t, length):

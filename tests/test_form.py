@@ -159,6 +159,47 @@ class FormTest(unittest.TestCase):
             if name in own:
                 self.assertIn(node, at_once, place)
 
+    def test_tries(self):
+        errors = {node.name for node in self.trees[PACKAGE / "errors.py"].body if isinstance(node, ast.ClassDef)}
+        for place, node in self.nodes(ast.Try):
+            for handler in node.handlers:
+                self.assertIn(handler.type.id, errors, place)
+                self.assertIsNone(handler.name, place)
+            # A finally only assigns names and attributes to such.
+            for row in node.finalbody:
+                self.assertIsInstance(row, ast.Assign, place)
+                parts = [part for part in ast.walk(row) if isinstance(part, ast.expr)]
+                for part in parts:
+                    self.assertIsInstance(part, (ast.Name, ast.Attribute, ast.Tuple), place)
+
+    def test_module_level_tables_are_only_read(self):
+        for path, tree in self.trees.items():
+            tables = {node.targets[0].id for node in tree.body
+                      if isinstance(node, ast.Assign) and isinstance(node.value, (ast.Dict, ast.List))}
+            read = set()
+            for node in ast.walk(tree):
+                if isinstance(node, (ast.Subscript, ast.Attribute)):
+                    read.add(node.value)
+                elif isinstance(node, ast.Compare):
+                    read.update(node.comparators)
+            for node in ast.walk(tree):
+                if isinstance(node, ast.Name) and isinstance(node.ctx, ast.Load) and node.id in tables:
+                    self.assertIn(node, read, f"{path.name}:{node.lineno}")
+
+    def test_properties(self):
+        names = [node.name for _, node in self.nodes(ast.FunctionDef)]
+        for place, node in self.nodes(ast.FunctionDef):
+            if [ast.unparse(decorator) for decorator in node.decorator_list] == ["property"]:
+                self.assertEqual(names.count(node.name), 1, place)
+                self.assertFalse([part for part in ast.walk(node) if isinstance(part, ast.Call)], place)
+
+    def test_imports_are_used(self):
+        for path, tree in self.trees.items():
+            read = {node.id for node in ast.walk(tree) if isinstance(node, ast.Name)}
+            for node in tree.body:
+                if isinstance(node, ast.ImportFrom):
+                    self.assertEqual({alias.name for alias in node.names} - read, set(), path.name)
+
     def test_generator_expressions(self):
         for place, node in self.nodes(ast.GeneratorExp, ast.Set, ast.SetComp):
             self.fail(f"{type(node).__name__} in {place}: see L7 and L24 before it is allowed here")
