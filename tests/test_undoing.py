@@ -2,6 +2,7 @@
 
 import unittest
 from fractions import Fraction
+from itertools import permutations
 
 from helper import ODD_VALUES, frac, number
 from slow_tracks import SlowTrack, answers_of, operations_of, perform, random_error, random_operation, random_tracks
@@ -368,6 +369,32 @@ class EqualTest(unittest.TestCase):
         self.assertNotEqual(one, other)
         other.do([("lead", "a", knots((4, 0))), ("to", (5, 1))])
         self.assertEqual(one, other)
+
+    def test_coming_in_another_order(self):
+        rows = [("come", "q", "a", (25, 1)), ("come", "p", "b", (3, 1)), ("come", "r", "c", (-1, 1)),
+                ("come", "s", "d", (107, 1))]
+        for length in [None, 10]:
+            made = []
+            for order in permutations(rows):
+                made.append(Track(length=length))
+                made[-1].do(order)
+            for further in [[], [("lead", "a", knots((9, 60))), ("lead", "c", knots((9, -9))), ("to", (5, 1))],
+                            [("to", (9, 1)), ("leave", "p")], [("to", (10, 1)), ("leave", "q"), ("leave", "r")]]:
+                for one in made:
+                    one.do(further)
+                self.assertTrue(all(one == made[0] for one in made))
+
+    def test_loads_exchanged_at_one_spot(self):
+        for length in [None, 10]:
+            made = []
+            for a, b in [(0, 2), (2, 0)]:
+                made.append(Track(length=length))
+                made[-1].do([("come", "p", "ab"[a // 2], (0, 1)), ("come", "q", "ab"[b // 2], (2, 1)),
+                             ("lead", "a", knots((1, 1))), ("lead", "b", knots((1, 1))), ("to", (1, 1))])
+            one, other = made
+            self.assertEqual([track.where(name) for track in made for name in "pq"], [(1, 1)] * 4)
+            self.assertEqual([(track.has("p"), track.has("q")) for track in made], [("a", "b"), ("b", "a")])
+            self.assertFalse(one == other)
 
     def test_together_at_one_spot(self):
         def at_one_spot(length, place):
